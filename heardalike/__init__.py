@@ -1,0 +1,1 @@
+"""Heard alike: documents that many change at once, each shown by what was heard alone."""
