@@ -84,3 +84,19 @@ def is_deed(thing):
 def named(deed):
     """What a deed NAMES: a list of stamps, in the words' order, as often as they stand there."""
     return stamps_in(deed[2])
+
+
+def thing_of(deed):
+    """The thing that a put, a move or a take is about; None of other deeds."""
+    stamp, before, words = deed
+    if words[0] == "put":
+        return stamp
+    return words[1] if words[0] in ("move", "take") else None
+
+
+def target_of(deed):
+    """The parent and the place of a put or a move, as a tuple; None of other deeds."""
+    words = deed[2]
+    if words[0] == "put":
+        return (words[1], words[2])
+    return (words[2], words[3]) if words[0] == "move" else None

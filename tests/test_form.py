@@ -17,6 +17,11 @@ BARRED_WORDS = re.compile(
     r"\b(type|typing|typing_extensions|enum|Enum|IntEnum|StrEnum|Flag|IntFlag|Generic|Protocol|ABC|ABCMeta|namedtuple"
     r"|NamedTuple|TypedDict|TYPE_CHECKING|abstractmethod)\b|dataclass|overload|contextmanager"
 )
+METHODS = set("""
+    append clear copy count endswith extend find get index insert isalnum isalpha isdigit islower isspace isupper items
+    join keys ljust lower lstrip partition pop remove removeprefix removesuffix replace reverse rfind rjust rpartition
+    rsplit rstrip setdefault split splitlines startswith strip update upper values zfill
+""".split())
 BARRED_NODES = (ast.Global, ast.AsyncFunctionDef, ast.AsyncFor, ast.AsyncWith, ast.Await, ast.Div, ast.Import)
 DUNDERS = re.compile(r"__[a-z]+__\Z")
 
@@ -92,6 +97,21 @@ class Code(unittest.TestCase):
         for name, node in nodes(BARRED_NODES):
             self.fail((name, node))
 
+    def test_no_generator_expressions(self):
+        # Beside a class with its own ==, all that takes one takes a list instead.
+        for name, node in nodes(ast.GeneratorExp):
+            self.fail((name, node.lineno))
+
+    def test_methods_of_builtin_values(self):
+        own = {node.name for _, node in nodes(ast.FunctionDef)}
+        for name, node in nodes(ast.Call):
+            if isinstance(node.func, ast.Attribute) and node.func.attr not in own:
+                self.assertIn(node.func.attr, METHODS, (name, node.lineno))
+
+    def test_sets_are_not_kept(self):
+        for name, node in nodes((ast.Assign, ast.Return)):
+            self.assertNotIsInstance(node.value, (ast.Set, ast.SetComp), (name, node.lineno))
+
     def test_literals(self):
         for name, node in nodes(ast.Constant):
             self.assertNotIsInstance(node.value, (float, complex), name)
@@ -118,6 +138,29 @@ class Code(unittest.TestCase):
         told += [(name, node.name) for name, node in nodes((ast.FunctionDef, ast.ClassDef))]
         for name, word in told:
             self.assertTrue(not word.startswith("_") or DUNDERS.match(word), (name, word))
+
+    def test_no_name_is_a_method_in_one_class_and_an_attribute_in_another(self):
+        methods = {node.name for _, kind in nodes(ast.ClassDef) for node in kind.body if isinstance(node, ast.FunctionDef)}
+        for name, node in nodes(ast.Attribute):
+            if isinstance(node.ctx, ast.Store):
+                self.assertNotIn(node.attr, methods, (name, node.lineno))
+
+    def test_no_local_name_is_that_of_a_class_an_import_or_a_function_of_its_file(self):
+        for name, tree in trees():
+            taken = {alias.name for node in imports_of(tree) for alias in node.names}
+            taken |= {node.name for node in tree.body if isinstance(node, (ast.ClassDef, ast.FunctionDef))}
+            for node in ast.walk(tree):
+                if isinstance(node, ast.arg):
+                    self.assertNotIn(node.arg, taken, (name, node.lineno))
+                if isinstance(node, ast.Name) and isinstance(node.ctx, ast.Store):
+                    self.assertNotIn(node.id, taken, (name, node.lineno))
+
+    def test_comparing_and_measuring_change_nothing(self):
+        for name, node in nodes(ast.FunctionDef):
+            if node.name in ("__eq__", "__len__", "__str__", "__repr__"):
+                self.assertIsInstance(node.body[-1], ast.Return, (name, node.name))
+                for inner in ast.walk(node):
+                    self.assertNotIsInstance(inner, (ast.Assign, ast.AugAssign, ast.Delete), (name, node.name))
 
 
 if __name__ == "__main__":
