@@ -16,6 +16,14 @@ def led_to(tree, path):
     return at
 
 
+def led_to_kind(tree, path, kinds):
+    """The thing of one of these kinds, ROOT as an object, to which a path leads; or NoPath."""
+    thing = led_to(tree, path)
+    if tree.kind_of(thing) not in kinds:
+        raise NoPath(path, len(path))
+    return thing
+
+
 def path_to(tree, thing):
     """The path that leads to a thing, or None."""
     path = []

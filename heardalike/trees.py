@@ -35,17 +35,29 @@ class Tree:
         things = [inner[position] for position in sorted(inner, reverse=True)]
         return [thing for thing in things if self.lying[thing][1] == field]
 
+    def firsts(self, parent):
+        """Of each field of ROOT or an object at which things lie the FIRST one there."""
+        inner = self.within.get(parent, {})
+        # Of several things at one field the one by the greatest position is set last.
+        return {self.lying[inner[position]][1]: inner[position] for position in sorted(inner)}
+
     def in_row(self, holder):
         """The things that lie in a list or a text, in the order in which they are shown."""
         inner = self.within.get(holder, {})
         return [inner[position] for position in order_in(self.footing, holder) if position in inner]
 
+    def shown_in(self, thing):
+        """The things that are shown in a thing, or in ROOT."""
+        kind = self.kind_of(thing)
+        if kind == "object":
+            return list(self.firsts(thing).values())
+        return self.in_row(thing) if kind in ("list", "text") else []
+
     def thing_by(self, parent, step):
         """The thing to which a step leads from another one, or None; the step may be anything."""
         kind = self.kind_of(parent)
         if kind == "object" and is_field(step):
-            things = self.at_field(parent, step)
-            return things[0] if things else None
+            return self.firsts(parent).get(step)
         if kind in ("list", "text") and is_whole(step):
             things = self.in_row(parent)
             return things[step] if 0 <= step < len(things) else None
@@ -57,4 +69,4 @@ class Tree:
         # A FIELD has signs: where it has none the thing lies in a list or a text.
         if field == "":
             return self.in_row(parent).index(thing)
-        return field if self.at_field(parent, field)[0] == thing else None
+        return field if self.firsts(parent)[field] == thing else None

@@ -219,6 +219,24 @@ class Model:
                 told += self.paths(inner, (*path, step))
         return told
 
+    def shown(self, thing=ROOT):
+        kind, *rest = ("object",) if thing == ROOT else self.what(thing)
+        if kind in ("leaf", "sign"):
+            return rest[0]
+        inner = {step: self.shown(one) for step, one in self.inner(thing).items()}
+        if kind == "object":
+            return inner
+        values = [inner[step] for step in sorted(inner)]
+        return values if kind == "list" else "".join(values)
+
+    def at_field(self, parent, field):
+        """The things that lie at a field, the first one first."""
+        there = [(lie[2], thing) for thing, lie in self.lies().items() if lie is not None and lie[:2] == (parent, field)]
+        return [thing for _, thing in sorted(there, reverse=True)]
+
+    def beside(self, parent, field):
+        return [self.shown(thing) for thing in self.at_field(parent, field)[1:]]
+
     # Points 30 to 32.
 
     def is_clean(self, upto):
@@ -226,10 +244,10 @@ class Model:
         return upto >= self.upto and not any(deed[0][0] > upto >= deed[2][1][0] for deed in undos)
 
     def ground(self, upto):
-        """The ground for a clean number, of a set without one."""
+        """The ground for a clean number."""
         stood = self.standing()
         above = [deed for deed in stood if deed[0][0] > upto]
-        below = Model([deed for deed in stood if deed[0][0] <= upto])
+        below = Model([deed for deed in stood if deed[0][0] <= upto], (self.upto, self.heads, self.things, tuple(self.rows.items())))
         kept = below.kept(above)
         return (upto, below.heads_below(above), tuple(below.thing_row(thing, kept) for thing in kept), tuple(
             (thing, row) for thing in kept if below.what(thing)[0] in ("list", "text") and (row := below.row(thing, kept, above))
@@ -238,7 +256,7 @@ class Model:
     def heads_below(self, above):
         wanted = {(deed[1], deed[0][1]) for deed in above}
         table = {(count, maker) for maker, count in self.table().items()}
-        return tuple(sorted(stamp for stamp in self.deeds if stamp in wanted | table))
+        return tuple(sorted(stamp for stamp in [*self.heads, *self.deeds] if stamp in wanted | table))
 
     def kept(self, above):
         named = {part for deed in above for part in named_as_things(deed[2])}
