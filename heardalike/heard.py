@@ -49,11 +49,15 @@ class Heard:
         """The ground beside which deeds are heard."""
         return self.base
 
+    def beside(self, ground):
+        """A Heard of its own that has heard the same, beside another ground."""
+        other = Heard(ground=ground)
+        other.kept = {stamp: self.kept[stamp] for stamp in self.kept if stamp[0] > ground[0]}
+        return other
+
     def copied(self):
         """A Heard of its own that has heard the same."""
-        other = Heard(ground=self.base)
-        other.kept = {stamp: self.kept[stamp] for stamp in self.kept}
-        return other
+        return self.beside(self.base)
 
     def __eq__(self, other):
         if not isinstance(other, Heard):

@@ -155,6 +155,38 @@ class Code(unittest.TestCase):
                 if isinstance(node, ast.Name) and isinstance(node.ctx, ast.Store):
                     self.assertNotIn(node.id, taken, (name, node.lineno))
 
+    def test_only_own_errors_are_caught(self):
+        own = {node.name for name, tree in trees() if name == "errors.py" for node in tree.body if isinstance(node, ast.ClassDef)}
+        for name, node in nodes(ast.ExceptHandler):
+            self.assertIsInstance(node.type, ast.Name, (name, node.lineno))
+            self.assertIn(node.type.id, own, (name, node.lineno))
+
+    def test_what_is_always_done_is_told_on_the_spot(self):
+        for name, node in nodes(ast.Try):
+            for last in node.finalbody:
+                self.assertIsInstance(last, ast.Expr, (name, node.lineno))
+                self.assertEqual(last.value.func.attr, "append", (name, node.lineno))
+
+    def test_keywords_of_builtins(self):
+        for name, node in nodes(ast.Call):
+            if isinstance(node.func, ast.Name) and node.func.id in BUILTINS:
+                allowed = {"sorted": ("key", "reverse"), "min": ("key", "default"), "max": ("key", "default")}.get(node.func.id, ())
+                for keyword in node.keywords:
+                    self.assertIn(keyword.arg, allowed, (name, node.lineno))
+
+    def test_each_attribute_that_is_read_is_assigned_or_a_method(self):
+        known = {node.name for _, node in nodes(ast.FunctionDef)} | METHODS
+        known |= {node.attr for _, node in nodes(ast.Attribute) if isinstance(node.ctx, ast.Store)}
+        for name, node in nodes(ast.Attribute):
+            self.assertIn(node.attr, known, (name, node.lineno))
+
+    def test_each_import_is_used(self):
+        for name, tree in trees():
+            used = {node.id for node in ast.walk(tree) if isinstance(node, ast.Name)}
+            for node in imports_of(tree):
+                for alias in node.names:
+                    self.assertIn(alias.name, used, name)
+
     def test_comparing_and_measuring_change_nothing(self):
         for name, node in nodes(ast.FunctionDef):
             if node.name in ("__eq__", "__len__", "__str__", "__repr__"):
